@@ -1,0 +1,1 @@
+"""Wardsdrawn: made-up lands parted into wards."""
