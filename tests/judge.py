@@ -10,6 +10,11 @@ def places_of(land):
     return tuple(range(len(land[0])))
 
 
+def heads_of(land):
+    """All pairs of two unlike places."""
+    return list(permutations(places_of(land), 2))
+
+
 def linked(land, one, other):
     return (min(one, other), max(one, other)) in land[1]
 

@@ -15,10 +15,6 @@ FIVE = judge.lands((0, 5, 1, 4, 2))[::3]
 LARGER = [samples.drawn_land(seed, 6 + seed % 3, 25 + 5 * (seed % 9)) for seed in range(18)]
 
 
-def heads_of(land):
-    return list(permutations(judge.places_of(land), 2))
-
-
 class DocumentTest(Asking):
     """The examples of the document."""
 
@@ -42,7 +38,7 @@ class IsOrderTest(Asking):
     def test_all_rows_of_small_lands(self):
         for land in SMALL:
             rows = list(permutations(judge.places_of(land)))
-            for head, other_head in heads_of(land):
+            for head, other_head in judge.heads_of(land):
                 for row in rows:
                     self.same(is_order(land, head, other_head, row), judge.is_order(land, head, other_head, row))
 
@@ -79,7 +75,7 @@ class IsShutTest(Asking):
     def test_all_cuts_and_lots_of_small_lands(self):
         for land in SMALL:
             every = judge.places_of(land)
-            for head, other_head in heads_of(land):
+            for head, other_head in judge.heads_of(land):
                 for lot in judge.lots_within(every):
                     for cut in (None, *every):
                         wanted = judge.is_shut(land, head, other_head, cut, lot)
@@ -89,7 +85,7 @@ class IsShutTest(Asking):
         for land in LARGER:
             every = judge.places_of(land)
             for lot in judge.lots_within(every)[::3]:
-                for head, other_head in heads_of(land)[::9]:
+                for head, other_head in judge.heads_of(land)[::9]:
                     for cut in (None, *every):
                         wanted = judge.is_shut(land, head, other_head, cut, lot)
                         self.same(is_shut(land, head, other_head, cut, lot), wanted)
@@ -132,12 +128,12 @@ class OrderedTest(Asking):
 
     def test_small_lands(self):
         for land in (*SMALL, *FIVE):
-            for head, other_head in heads_of(land):
+            for head, other_head in judge.heads_of(land):
                 self.same(ordered(land, head, other_head), judge.ordered(land, head, other_head))
 
     def test_larger_lands(self):
         for land in LARGER:
-            for head, other_head in heads_of(land)[::5]:
+            for head, other_head in judge.heads_of(land)[::5]:
                 self.same(ordered(land, head, other_head), judge.ordered(land, head, other_head))
 
     def test_two_places_alone(self):
@@ -172,7 +168,7 @@ class OrderedTest(Asking):
 
     def test_what_is_told_is_right(self):
         for land in (*LARGER, *samples.TWELVES):
-            for head, other_head in heads_of(land)[::7]:
+            for head, other_head in judge.heads_of(land)[::7]:
                 answer = ordered(land, head, other_head)
                 if answer[0] == "yes":
                     self.same(is_order(land, head, other_head, answer[1]), True)
@@ -184,12 +180,12 @@ class CountedTest(Asking):
 
     def test_small_lands(self):
         for land in (*SMALL, *FIVE[::3]):
-            for head, other_head in heads_of(land):
+            for head, other_head in judge.heads_of(land):
                 self.ask(land, head, other_head, 1)
 
     def test_larger_lands(self):
         for land in LARGER:
-            for head, other_head in heads_of(land)[::11]:
+            for head, other_head in judge.heads_of(land)[::11]:
                 self.ask(land, head, other_head, 37)
 
     def ask(self, land, head, other_head, step):
@@ -209,7 +205,7 @@ class CountedTest(Asking):
 
     def test_the_least_is_the_first(self):
         for land in (*LARGER, *samples.TWELVES):
-            for head, other_head in heads_of(land)[::13]:
+            for head, other_head in judge.heads_of(land)[::13]:
                 answer = ordered(land, head, other_head)
                 many = order_count(land, head, other_head)
                 self.same(answer[0], "yes" if many else "no")
@@ -220,7 +216,7 @@ class CountedTest(Asking):
 
     def test_as_many_the_other_way(self):
         for land in (*LARGER, *samples.TWELVES):
-            for head, other_head in heads_of(land)[::13]:
+            for head, other_head in judge.heads_of(land)[::13]:
                 self.same(order_count(land, head, other_head), order_count(land, other_head, head))
 
     def test_heads_that_are_none(self):
@@ -236,7 +232,7 @@ class FactOTest(Asking):
     def test_an_order_or_a_shut_lot(self):
         for land in (*SMALL, *FIVE[::9]):
             every = judge.places_of(land)
-            for head, other_head in heads_of(land):
+            for head, other_head in judge.heads_of(land):
                 shut = any(is_shut(land, head, other_head, cut, lot)
                            for lot in judge.lots_within(every) for cut in (None, *every))
                 self.same(order_count(land, head, other_head) > 0, not shut)
@@ -244,7 +240,7 @@ class FactOTest(Asking):
     def test_an_order_exactly_if_no_place_cuts(self):
         for land in (*SMALL, *FIVE, *LARGER, *samples.TWELVES):
             every = judge.places_of(land)
-            for head, other_head in heads_of(land)[::3]:
+            for head, other_head in judge.heads_of(land)[::3]:
                 put_in = judge.with_border(land, head, other_head)
                 whole = hangs(put_in, every) and cut_places(put_in, every) == ()
                 self.same(ordered(land, head, other_head)[0], "yes" if whole else "no")
@@ -260,7 +256,7 @@ class FactOTest(Asking):
         for land in LARGER:
             order = judge.places_of(land)[1:] + (0,)
             there = turned(land, order)
-            for head, other_head in heads_of(land)[::9]:
+            for head, other_head in judge.heads_of(land)[::9]:
                 led = order.index(head), order.index(other_head)
                 self.same(order_count(there, *led), order_count(land, head, other_head))
 

@@ -1,7 +1,6 @@
 """Promise [8]: partings of a land by two heads; and of [1] what these modules tell of it."""
 
 import unittest
-from itertools import permutations
 
 from tests import judge, samples
 from tests.asking import Asking
@@ -16,10 +15,6 @@ FIVE = judge.lands((3, 3, 0, 8, 1))[::11]
 LARGER = [samples.drawn_land(seed, 6 + seed % 3, 20 + 6 * (seed % 8)) for seed in range(16)]
 # Here many partings are alike fair.
 EVEN = [(tuple(k % 2 for k in range(len(folk))), borders) for folk, borders in LARGER]
-
-
-def heads_of(land):
-    return list(permutations(judge.places_of(land), 2))
 
 
 class DocumentTest(Asking):
@@ -43,12 +38,12 @@ class PartingsTest(Asking):
 
     def test_small_lands(self):
         for land in (*SMALL, *FIVE):
-            for head, other_head in heads_of(land):
+            for head, other_head in judge.heads_of(land):
                 self.ask(land, head, other_head)
 
     def test_larger_lands(self):
         for land in (*LARGER, *EVEN):
-            for head, other_head in heads_of(land)[::7]:
+            for head, other_head in judge.heads_of(land)[::7]:
                 self.ask(land, head, other_head)
 
     def ask(self, land, head, other_head):
@@ -115,13 +110,13 @@ class ByOrderTest(Asking):
 
     def test_all_orders_of_small_lands(self):
         for land in (*SMALL, *FIVE):
-            for head, other_head in heads_of(land):
+            for head, other_head in judge.heads_of(land):
                 for order in judge.orders(land, head, other_head):
                     self.ask(land, order)
 
     def test_orders_of_larger_lands(self):
         for land in LARGER:
-            for head, other_head in heads_of(land)[::7]:
+            for head, other_head in judge.heads_of(land)[::7]:
                 for order in judge.orders(land, head, other_head)[::23]:
                     self.ask(land, order)
 
@@ -152,14 +147,14 @@ class FactWTest(Asking):
 
     def test_where_there_is_an_order_no_size_is_barred(self):
         for land in (*SMALL, *FIVE, *LARGER, *samples.TWELVES[::2]):
-            for head, other_head in heads_of(land)[::5]:
+            for head, other_head in judge.heads_of(land)[::5]:
                 if ordered(land, head, other_head)[0] == "yes":
                     self.same(barred_sizes(land, head, other_head), ())
                     self.assertLessEqual(fairest(land, head, other_head)[0], max(land[0]))
 
     def test_a_shut_lot_need_not_bar_a_size(self):
         land = ((1,) * 5, ((0, 1), (0, 2), (1, 3), (1, 4), (2, 4)))
-        unbarred = [heads for heads in heads_of(land)
+        unbarred = [heads for heads in judge.heads_of(land)
                     if ordered(land, *heads)[0] == "no" and barred_sizes(land, *heads) == ()]
         self.assertIn((0, 4), unbarred)
 
@@ -170,7 +165,7 @@ class FactWTest(Asking):
     def test_each_parting_has_a_shut_lot_where_its_cut_is(self):
         for land in (*SMALL, *FIVE[::3]):
             every = judge.places_of(land)
-            for head, other_head in heads_of(land):
+            for head, other_head in judge.heads_of(land):
                 found = judge.partings(land, head, other_head)
                 for lot in judge.lots_within(every):
                     for cut in (None, *every):
@@ -191,7 +186,7 @@ class OverviewTest(Asking):
 
     def test_every_size_by_a_walk_along_an_order_or_a_shut_lot_and_the_barred_sizes(self):
         for land in (*SMALL, *FIVE, *LARGER, *samples.TWELVES[::2]):
-            for head, other_head in heads_of(land)[::5]:
+            for head, other_head in judge.heads_of(land)[::5]:
                 answer = ordered(land, head, other_head)
                 if answer[0] == "yes":
                     self.served(land, head, other_head, answer[1])
