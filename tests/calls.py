@@ -1,12 +1,22 @@
-"""The calls of the three modules: for each one right arguments, and for each parameter what is wrong for it."""
+"""The calls of the modules: for each one right arguments, and for each parameter what is wrong for it."""
 
 from tests import samples
-from wardsdrawn import errors, lands, orders
+from wardsdrawn import errors, exchanges, lands, orders, spans, wished
+
+MODULES = (lands, orders, wished, spans, exchanges)
 
 PLACED = {"land": samples.LAND, "head": 2}
 LOTTED = {"land": samples.LAND, "lot": (0, 1, 3)}
 PLANNED = {"land": samples.LAND, "plan": samples.PLAN}
 HEADED = {"land": samples.RING, "head": 0, "other_head": 2}
+WISHED = {"land": samples.WISHED, "heads": (1, 2), "sizes": (2, 2)}
+WHOLE = {"land": samples.RING, "lot": (0, 1, 2, 3)}
+GROWN = {**WHOLE, "tree": samples.RING_TREE}
+BOUNDED = {"low": 6, "high": 12}
+LED = {**PLANNED, "other_plan": ((0, 1, 2, 3), (4,)), **BOUNDED}
+
+# The plans of two wards of samples.LAND that fit 6 and 12: 7 and 11 folk, 7 and 11, 11 and 7.
+CLOSED = (((0, 1), (2, 3, 4)), ((0, 1, 2), (3, 4)), ((0, 1, 2, 3), (4,)))
 
 # A row for each function: it, and right arguments, by the names and in the sequence of the interface.
 CALLS = (
@@ -36,6 +46,24 @@ CALLS = (
     (orders.ward_counts, HEADED),
     (orders.fairest, HEADED),
     (orders.by_order, {**HEADED, "order": (0, 3, 1, 2), "size": 2}),
+    (wished.wished, WISHED),
+    (wished.is_serving, {**WISHED, "value": ((0, 1), (2, 3))}),
+    (wished.are_cases, {**WISHED, "sizes": (1, 3), "value": ("split", 0, (("over", 0), ("shut", 1)))}),
+    (spans.tree_count, WHOLE),
+    (spans.is_tree, {**WHOLE, "value": samples.RING_TREE}),
+    (spans.nth_tree, {**WHOLE, "number": 2}),
+    (spans.tree_number, GROWN),
+    (spans.parts, {**GROWN, "cuts": ((1, 2),)}),
+    (spans.even_cuts, {**GROWN, "low": 3, "high": 5}),
+    (spans.most_parts, {**GROWN, "low": 3}),
+    (spans.fairest_parts, {**GROWN, "count": 2}),
+    (exchanges.fits, {**PLANNED, **BOUNDED}),
+    (exchanges.near, {**PLANNED, **BOUNDED}),
+    (exchanges.closed_lot, {**PLANNED, **BOUNDED}),
+    (exchanges.led, LED),
+    (exchanges.is_row, {**LED, "value": CLOSED[1:]}),
+    (exchanges.is_closed, {"land": samples.LAND, **BOUNDED, "value": CLOSED}),
+    (exchanges.closed_lots, {"land": samples.LAND, "count": 2, **BOUNDED}),
 )
 
 # What the calls of CALLS answer.
@@ -44,7 +72,13 @@ ANSWERS = (
     ((2, 0, 5, 4, 7), ((0, 1), (0, 2), (1, 2), (1, 3), (3, 4))), ((0, 1, 2), (3, 4)),
     True, False, ("yes", (0, 1, 3, 2)), 2, (0, 3, 1, 2),
     ((0, 1), (2, 3)), (), (1, 2, 1), (0, (0, 1), (2, 3)), ((0, 3), (1, 2)),
+    ("yes", ((0, 1), (2, 3))), True, True,
+    4, True, samples.RING_TREE, 2, ((0, 1), (2, 3)), ((0, 1), (1, 2)), (2, ((0, 1),)), (4, ((1, 2),)),
+    True, (CLOSED[0], CLOSED[2]), CLOSED, ("yes", CLOSED[1:]), True, True, (CLOSED,),
 )
+
+# Of samples.ANY_VALUES, these are right for a parameter.
+RIGHT_VALUES = {"cut": (None,), "cuts": ((),), "high": (12, 10 ** 89, 10 ** 90 - 1)}
 
 
 def told(error, values, field=None):
@@ -52,22 +86,49 @@ def told(error, values, field=None):
     return [(value, error, field, None) for value in values]
 
 
+# What is wrong for a parameter, whichever call it is of.
+WRONG = {
+    "lot": (errors.InvalidLot, samples.NO_LOTS),
+    "head": (errors.InvalidPlace, samples.NO_HEADS),
+    "other_head": (errors.InvalidPlace, samples.NO_OTHER_HEADS),
+    "row": (errors.InvalidPart, samples.NO_ROWS),
+    "order": (errors.InvalidPart, samples.NO_TURNS),
+    "cut": (errors.InvalidPart, samples.NO_CUTS),
+    "size": (errors.InvalidCount, samples.NO_SIZES),
+    "number": (errors.InvalidCount, samples.NO_NUMBERS),
+    "heads": (errors.InvalidPart, samples.NO_WISHED_HEADS),
+    "sizes": (errors.InvalidPart, samples.NO_WISHED_SIZES),
+    "tree": (errors.InvalidPart, samples.NO_TREES),
+    "cuts": (errors.InvalidPart, samples.NO_CUTS_OF_TREE),
+    "low": (errors.InvalidBounds, samples.NO_LOWS_BELOW_HIGH),
+    "high": (errors.InvalidBounds, samples.NO_HIGHS),
+    "count": (errors.InvalidCount, samples.NO_WARD_COUNTS),
+}
+
+# What is wrong for a parameter of one call alone.
+WRONG_FOR = {
+    (orders.by_order, "order"): (errors.InvalidPart, samples.NO_ORDERS),
+    (spans.nth_tree, "number"): (errors.InvalidCount, samples.NO_TREE_NUMBERS),
+    (spans.even_cuts, "high"): (errors.InvalidBounds, (2, *samples.NO_HIGHS[1:])),
+    (spans.most_parts, "low"): (errors.InvalidBounds, samples.NO_LOWS),
+    (spans.fairest_parts, "count"): (errors.InvalidCount, samples.NO_PART_COUNTS),
+}
+
+
 def wrong_for(call, name):
     """Rows (value, error class, name of its field or None, worth of it) of wrong arguments for a parameter."""
     if name == "land":
         return [(value, errors.InvalidLand, "place", place) for value, place in samples.NO_LANDS]
-    if name == "plan":
+    if name in ("plan", "other_plan"):
         return [(value, errors.InvalidPlan, "index", index) for value, index in samples.NO_PLANS]
-    if name == "order" and call is orders.by_order:
-        return told(errors.InvalidPart, samples.NO_ORDERS)
-    table = {
-        "lot": (errors.InvalidLot, samples.NO_LOTS),
-        "head": (errors.InvalidPlace, samples.NO_HEADS),
-        "other_head": (errors.InvalidPlace, samples.NO_OTHER_HEADS),
-        "row": (errors.InvalidPart, samples.NO_ROWS),
-        "order": (errors.InvalidPart, samples.NO_TURNS),
-        "cut": (errors.InvalidPart, samples.NO_CUTS),
-        "size": (errors.InvalidCount, samples.NO_SIZES),
-        "number": (errors.InvalidCount, samples.NO_NUMBERS),
-    }
-    return told(*table[name]) if name in table else []
+    row = WRONG_FOR.get((call, name), WRONG.get(name))
+    return told(*row) if row else []
+
+
+def any_wrong_for(call, name):
+    """The values of samples.ANY_VALUES that are wrong for a parameter of a call."""
+    right = RIGHT_VALUES.get(name, ())
+    if name == "low":
+        # An integer above high is wrong as a low beside it.
+        right = RIGHT_VALUES["high"] if call is spans.most_parts else (12,)
+    return [value for value in samples.ANY_VALUES if repr(value) not in [repr(known) for known in right]]

@@ -11,8 +11,8 @@ from itertools import combinations
 
 from tests import samples
 from tests.asking import Asking
-from tests.calls import ANSWERS, CALLS, wrong_for
-from wardsdrawn import errors, lands, orders
+from tests.calls import ANSWERS, CALLS, MODULES, any_wrong_for, wrong_for
+from wardsdrawn import errors, exchanges, lands, orders, spans, wished
 
 ROOT = os.path.dirname(os.path.dirname(os.path.abspath(__file__)))
 
@@ -21,6 +21,10 @@ ELSEWHERE = "from tests.calls import CALLS; print([call(**right) for call, right
 
 # "Some seconds" of [3], with room for a slow machine.
 SECONDS = 10
+
+
+# The rows of CALLS of the functions that judge any value.
+JUDGES = [(call, right) for call, right in CALLS if "value" in right and not call.__name__.endswith("_fault")]
 
 
 def short(value):
@@ -37,10 +41,33 @@ class CallingTest(Asking):
 
     def test_each_function_is_defined_in_its_file(self):
         for call, _ in CALLS:
-            home = lands if call.__name__ in vars(lands) else orders
             with self.subTest(call.__name__):
                 self.assertTrue(inspect.isfunction(call))
-                self.assertEqual(call.__module__, home.__name__)
+                self.assertIn(call.__module__, [home.__name__ for home in MODULES])
+                home = sys.modules[call.__module__]
+                self.assertIs(getattr(home, call.__name__), call)
+
+    def test_the_interface_is_called_whole(self):
+        found = {home.__name__: [call.__name__ for call, _ in CALLS if call.__module__ == home.__name__]
+                 for home in MODULES}
+        self.assertEqual(found, {
+            "wardsdrawn.lands": [
+                "land_fault", "plan_fault", "is_land", "is_plan", "neighbours", "hangs", "pieces", "cut_places",
+                "folk_of", "cut_borders", "near_wards", "ward_of", "spread", "plan_of", "turned", "turned_plan",
+            ],
+            "wardsdrawn.orders": [
+                "is_order", "is_shut", "ordered", "order_count", "nth_order", "two_wards", "barred_sizes",
+                "ward_counts", "fairest", "by_order",
+            ],
+            "wardsdrawn.wished": ["wished", "is_serving", "are_cases"],
+            "wardsdrawn.spans": [
+                "tree_count", "is_tree", "nth_tree", "tree_number", "parts", "even_cuts", "most_parts",
+                "fairest_parts",
+            ],
+            "wardsdrawn.exchanges": [
+                "fits", "near", "closed_lot", "led", "is_row", "is_closed", "closed_lots",
+            ],
+        })
 
     def test_by_position(self):
         for (call, right), answer in zip(CALLS, ANSWERS, strict=True):
@@ -129,9 +156,39 @@ class CallingTest(Asking):
         self.same(orders.is_order(one_and_two, 0, 1, (0, 1)), True)
         self.same(orders.is_order(one_and_two, 0, 1, (False, True)), False)
 
+    def test_an_equal_truth_is_no_head_size_number_or_bound(self):
+        land, plan = ((1, 0), ((0, 1),)), ((0,), (1,))
+        self.same(wished.wished(land, (0, 1), (1, 1)), ("yes", plan))
+        self.raises(errors.InvalidPart, wished.wished, land, (False, 1), (1, 1))
+        self.raises(errors.InvalidPart, wished.wished, land, (0, True), (1, 1))
+        self.raises(errors.InvalidPart, wished.wished, land, (0, 1), (1, True))
+        self.same(wished.is_serving(land, (0, 1), (1, 1), plan), True)
+        self.same(wished.is_serving(land, (0, 1), (1, 1), ((0,), (True,))), False)
+        self.same(wished.are_cases(samples.empty((1, 1, 1)), (0, 1), (2, 1), ("shut", 0)), True)
+        self.same(wished.are_cases(samples.empty((1, 1, 1)), (0, 1), (2, 1), ("shut", False)), False)
+        self.same(spans.tree_count(land, (0, 1)), 1)
+        self.same(spans.nth_tree(land, (0, 1), 0), ((0, 1),))
+        self.raises(errors.InvalidCount, spans.nth_tree, land, (0, 1), False)
+        self.raises(errors.InvalidLot, spans.tree_count, land, (0, True))
+        self.same(spans.is_tree(land, (0, 1), ((0, 1),)), True)
+        self.same(spans.is_tree(land, (0, 1), ((0, True),)), False)
+        self.raises(errors.InvalidPart, spans.tree_number, land, (0, 1), ((False, 1),))
+        self.raises(errors.InvalidPart, spans.parts, land, (0, 1), ((0, 1),), ((0, True),))
+        self.raises(errors.InvalidBounds, spans.most_parts, land, (0, 1), ((0, 1),), True)
+        self.raises(errors.InvalidCount, spans.fairest_parts, land, (0, 1), ((0, 1),), True)
+        self.raises(errors.InvalidBounds, exchanges.fits, land, plan, False, 1)
+        self.raises(errors.InvalidBounds, exchanges.fits, land, plan, 0, True)
+        self.same(exchanges.is_row(land, plan, plan, 0, 1, (plan,)), True)
+        self.same(exchanges.is_row(land, plan, plan, 0, 1, (((0,), (True,)),)), False)
+        self.same(exchanges.is_closed(land, 0, 1, (plan,)), True)
+        self.same(exchanges.is_closed(land, 0, 1, (((False,), (1,)),)), False)
+        self.raises(errors.InvalidCount, exchanges.closed_lots, land, True, 0, 1)
+
     def test_a_list_is_no_tuple(self):
-        known = {"land": errors.InvalidLand, "plan": errors.InvalidPlan, "lot": errors.InvalidLot,
-                 "row": errors.InvalidPart, "order": errors.InvalidPart}
+        known = {"land": errors.InvalidLand, "plan": errors.InvalidPlan, "other_plan": errors.InvalidPlan,
+                 "lot": errors.InvalidLot, "row": errors.InvalidPart, "order": errors.InvalidPart,
+                 "heads": errors.InvalidPart, "sizes": errors.InvalidPart, "tree": errors.InvalidPart,
+                 "cuts": errors.InvalidPart}
         for call, right in CALLS:
             for name in right:
                 if name in known:
@@ -141,10 +198,16 @@ class CallingTest(Asking):
         self.same(lands.is_plan(samples.LAND, list(samples.PLAN)), False)
         self.same(lands.is_plan(samples.LAND, ([0, 1, 2], [3, 4])), False)
         self.same(orders.is_order(samples.RING, 0, 2, [0, 3, 1, 2]), False)
+        for call, right in CALLS:
+            if call.__module__ not in ("wardsdrawn.lands", "wardsdrawn.orders") and "value" in right:
+                with self.subTest(call.__name__):
+                    self.same(call(**right), True)
+                    self.same(call(**{**right, "value": list(right["value"])}), False)
+                    self.same(call(**{**right, "value": (*right["value"][:-1], [right["value"][-1]])}), False)
 
     def test_answers_are_of_the_told_kinds(self):
         for call, right in CALLS:
-            if call.__name__.startswith("is_") or call.__name__ == "hangs":
+            if call.__name__.startswith("is_") or call.__name__ in ("hangs", "are_cases", "fits"):
                 with self.subTest(call.__name__):
                     self.assertIs(type(call(**right)), bool)
         for land in (samples.full([3] * 5), samples.empty([3] * 5)):
@@ -187,6 +250,33 @@ class LimitsTest(Asking):
                 self.same(orders.fairest(land, head, other_head), (1000000, (head,), (other_head,)))
                 self.same(orders.by_order(land, head, other_head, (head, other_head), 1), ((head,), (other_head,)))
 
+    def test_wishes_trees_and_exchanges_of_two_places(self):
+        alone, one = ((0,), (1,)), ((0, 1),)
+        for land, many in ((((0, 1000000), ()), 0), (((0, 1000000), ((0, 1),)), 1)):
+            self.same(wished.wished(land, (1, 0), (1, 1)), ("yes", ((1,), (0,))))
+            self.same(wished.is_serving(land, (1, 0), (1, 1), ((1,), (0,))), True)
+            self.same(wished.are_cases(land, (1, 0), (1, 1), ("shut", 0)), False)
+            self.same(spans.tree_count(land, (0, 1)), many)
+            self.same(spans.tree_count(land, (1,)), 1)
+            self.same(spans.is_tree(land, (0, 1), ((0, 1),)), many == 1)
+            self.same(spans.nth_tree(land, (0,), 0), ())
+            self.same(exchanges.fits(land, alone, 0, 1000000), True)
+            self.same(exchanges.near(land, alone, 0, 1000000), ())
+            self.same(exchanges.closed_lot(land, alone, 0, 1000000), (alone,))
+            self.same(exchanges.led(land, alone, alone, 0, 1000000), ("yes", (alone,)))
+            self.same(exchanges.closed_lots(land, 2, 0, 1000000), ((alone,),))
+            self.same(exchanges.closed_lots(land, 1, 0, 1000000), ((one,),) if many else ())
+        land = ((0, 1000000), ((0, 1),))
+        self.same(spans.nth_tree(land, (0, 1), 0), ((0, 1),))
+        self.same(spans.tree_number(land, (0, 1), ((0, 1),)), 0)
+        self.same(spans.parts(land, (0, 1), ((0, 1),), ()), ((0, 1),))
+        self.same(spans.parts(land, (0, 1), ((0, 1),), ((0, 1),)), alone)
+        self.same(spans.even_cuts(land, (0, 1), ((0, 1),), 0, 1000000), ((0, 1),))
+        self.same(spans.most_parts(land, (0, 1), ((0, 1),), 1), (1, ()))
+        self.same(spans.fairest_parts(land, (0, 1), ((0, 1),), 2), (0, ((0, 1),)))
+        self.same(exchanges.led(land, alone, one, 0, 1000000), ("no", (alone,)))
+        self.same(exchanges.is_closed(land, 0, 1000000, (alone, one)), True)
+
     def test_each_call_on_twelve_places_ends_soon(self):
         for land in samples.TWELVES:
             for call, right in CALLS:
@@ -196,12 +286,20 @@ class LimitsTest(Asking):
     def for_twelve(self, call, land, right):
         """Arguments for a call on a land of twelve places."""
         every = tuple(range(12))
+        alone = tuple((k,) for k in every)
+        tree = spans.nth_tree(land, every, 0) if lands.hangs(land, every) else ()
         made = {
-            "land": land, "value": land, "plan": tuple((k,) for k in every), "lot": every, "head": 0,
+            "land": land, "value": land, "plan": alone, "other_plan": alone, "lot": every, "head": 0,
             "other_head": 11, "row": every, "order": every, "cut": None, "number": 0, "size": 6,
+            "heads": (0, 3, 6, 11), "sizes": (3, 3, 3, 3), "tree": tree, "cuts": tree[::2], "low": 0,
+            "high": 10 ** 89, "count": 6,
         }
-        if call is orders.is_order:
-            made["value"] = every
+        values = {
+            orders.is_order: every, wished.is_serving: tuple(every[k:k + 3] for k in (0, 3, 6, 9)),
+            wished.are_cases: ("lost", 5), spans.is_tree: tree, exchanges.is_row: (alone,),
+            exchanges.is_closed: (alone,),
+        }
+        made["value"] = values.get(call, land)
         if call is orders.is_shut:
             made["lot"] = every[1:11]
         return {name: made[name] for name in right}
@@ -211,8 +309,11 @@ class LimitsTest(Asking):
         try:
             call(**arguments)
         except (errors.InvalidCount, errors.InvalidPart):
-            # A land without an order has no number of one, and no order to hand in.
-            self.assertIn(call, (orders.nth_order, orders.by_order))
+            # A land without an order, or a tree, has no number of one, and none to hand in.
+            self.assertIn(call, (orders.nth_order, orders.by_order, spans.nth_tree, spans.tree_number, spans.parts,
+                                 spans.even_cuts, spans.most_parts, spans.fairest_parts))
+        except errors.TooMany:
+            self.assertIs(call, exchanges.closed_lots)
         self.assertLess(time.monotonic() - began, SECONDS)
 
     def test_orders_where_each_two_of_twelve_are_neighbours(self):
@@ -244,10 +345,8 @@ class LimitsTest(Asking):
         for call, right in CALLS:
             for name in right:
                 wrong = wrong_for(call, name)
-                for value in samples.ANY_VALUES if wrong else ():
-                    if name == "cut" and value is None:
-                        continue
-                    worth = {"land": (), "plan": 0}.get(name)
+                for value in any_wrong_for(call, name) if wrong else ():
+                    worth = {"land": (), "plan": 0, "other_plan": 0}.get(name)
                     with self.subTest(call.__name__, name=name, value=short(value)):
                         began = time.monotonic()
                         self.raises(wrong[0][1], call, **{**right, name: value}, field=wrong[0][2], worth=worth)
@@ -260,15 +359,25 @@ class LimitsTest(Asking):
                 self.same(lands.is_land(value), False)
                 self.same(lands.plan_fault(samples.LAND, value), 0)
                 self.same(lands.is_plan(samples.LAND, value), False)
-                self.same(orders.is_order(samples.RING, 0, 2, value), False)
+                for judge, right in JUDGES:
+                    began = time.monotonic()
+                    self.same(judge(**{**right, "value": value}), False)
+                    self.assertLess(time.monotonic() - began, SECONDS)
 
     def test_what_a_call_returns_may_be_handed_on(self):
         for call, right in CALLS:
             value = call(**right)
-            for judge, ahead in ((lands.is_land, ()), (lands.is_plan, (samples.LAND,)),
-                                 (orders.is_order, (samples.RING, 0, 2))):
+            for judge, its_own in JUDGES:
                 with self.subTest(call.__name__, judge=judge.__name__):
-                    self.assertIs(type(judge(*ahead, value)), bool)
+                    self.assertIs(type(judge(**{**its_own, "value": value})), bool)
+
+    def test_a_part_of_any_kind_within_a_right_value(self):
+        for judge, right in JUDGES:
+            for k in range(len(right["value"])):
+                for value in samples.ANY_VALUES:
+                    changed = (*right["value"][:k], value, *right["value"][k + 1:])
+                    with self.subTest(judge.__name__, value=short(changed)):
+                        self.assertIs(type(judge(**{**right, "value": changed})), bool)
 
 
 class WrongArgumentsTest(Asking):
@@ -301,7 +410,8 @@ class WrongArgumentsTest(Asking):
 
     def test_each_parameter_of_the_table_is_asked(self):
         asked = {name for call, right in CALLS for name in right if wrong_for(call, name)}
-        self.assertEqual(asked, {"land", "plan", "lot", "head", "other_head", "row", "order", "cut", "size", "number"})
+        self.assertEqual(asked, {"land", "plan", "other_plan", "lot", "head", "other_head", "row", "order", "cut",
+                                 "size", "number", "heads", "sizes", "tree", "cuts", "low", "high", "count"})
 
     def test_both_heads_are_unlike(self):
         for call, right in CALLS:
@@ -327,6 +437,19 @@ class WrongArgumentsTest(Asking):
         self.raises(errors.InvalidPart, lands.plan_of, samples.LAND, (1, 2, 1, 2, True))
         self.raises(errors.InvalidLand, lands.plan_of, (*samples.LAND, ()), apart, field="place", worth=())
 
+    def test_other_errors_of_exchanges_stand_behind_those_of_the_parameters(self):
+        one = ((0, 1, 2, 3, 4),)
+        self.raises(errors.Refused, exchanges.closed_lot, samples.LAND, one, 6, 12)
+        self.raises(errors.InvalidBounds, exchanges.closed_lot, samples.LAND, one, 6, 5)
+        self.raises(errors.Refused, exchanges.led, samples.LAND, one, samples.PLAN, 6, 12)
+        self.raises(errors.Refused, exchanges.led, samples.LAND, samples.PLAN, one, 6, 12)
+        self.raises(errors.InvalidPlan, exchanges.led, samples.LAND, one, (), 6, 12, field="index", worth=0)
+        self.raises(errors.InvalidBounds, exchanges.led, samples.LAND, one, one, 12, 6)
+        full = samples.full((1,) * 12)
+        self.raises(errors.InvalidCount, exchanges.closed_lots, full, 13, 12, 6)
+        self.raises(errors.InvalidBounds, exchanges.closed_lots, full, 12, 12, 6)
+        self.raises(errors.TooMany, exchanges.closed_lots, full, 12, 6, 12, field="count", worth=12)
+
     def test_judges_raise_nothing_for_their_value(self):
         for value, place in samples.NO_LANDS:
             with self.subTest(short(value)):
@@ -339,6 +462,15 @@ class WrongArgumentsTest(Asking):
         for value in samples.NO_ORDERS:
             with self.subTest(short(value)):
                 self.same(orders.is_order(samples.RING, 0, 2, value), False)
+        for value in samples.NO_TREES:
+            with self.subTest(short(value)):
+                self.same(spans.is_tree(samples.RING, (0, 1, 2, 3), value), False)
+        for value, _ in samples.NO_PLANS:
+            with self.subTest(short(value)):
+                self.same(exchanges.is_row(samples.LAND, samples.PLAN, samples.PLAN, 0, 99, (value,)), False)
+                self.same(exchanges.is_row(samples.LAND, samples.PLAN, samples.PLAN, 0, 99, value), False)
+                self.same(exchanges.is_closed(samples.LAND, 0, 99, (value,)), False)
+                self.same(exchanges.is_closed(samples.LAND, 0, 99, value), False)
 
     def test_judges_raise_for_their_other_parameters(self):
         for value in (None, samples.PLAN, ()):
@@ -347,6 +479,17 @@ class WrongArgumentsTest(Asking):
             self.raises(errors.InvalidLand, orders.is_order, ((1, -1), ()), 0, 1, value, field="place", worth=(0, 1))
             self.raises(errors.InvalidPlace, orders.is_order, samples.RING, 4, 1, value)
             self.raises(errors.InvalidPlace, orders.is_order, samples.RING, 1, 1, value)
+            for judge in (wished.is_serving, wished.are_cases):
+                self.raises(errors.InvalidLand, judge, None, (), (), value, field="place", worth=())
+                self.raises(errors.InvalidPart, judge, samples.WISHED, (1,), (2, 2), value)
+                self.raises(errors.InvalidPart, judge, samples.WISHED, (1, 2), (2, 3), value)
+            self.raises(errors.InvalidLot, spans.is_tree, samples.RING, (), value)
+            self.raises(errors.InvalidPlan, exchanges.is_row, samples.LAND, (), None, 0, 9, value,
+                        field="index", worth=0)
+            self.raises(errors.InvalidPlan, exchanges.is_row, samples.LAND, samples.PLAN, ((0,),), 0, 9, value,
+                        field="index", worth=1)
+            self.raises(errors.InvalidBounds, exchanges.is_row, samples.LAND, samples.PLAN, samples.PLAN, 9, 8, value)
+            self.raises(errors.InvalidBounds, exchanges.is_closed, samples.LAND, 9, 8, value)
 
 
 if __name__ == "__main__":

@@ -4,7 +4,8 @@ A mask is an integer that stands for some places: its k-th bit is 1 if the k-th 
 The links of a land are a list with, for each place, the mask of its neighbours.
 """
 
-from wardsdrawn.errors import InvalidCount, InvalidLand, InvalidLot, InvalidPart, InvalidPlace, InvalidPlan
+from wardsdrawn.errors import InvalidBounds, InvalidCount, InvalidLand, InvalidLot
+from wardsdrawn.errors import InvalidPart, InvalidPlace, InvalidPlan
 
 FEWEST_PLACES = 2
 MOST_PLACES = 12
@@ -195,6 +196,19 @@ def check_count(count, low, high):
     """InvalidCount unless any value is an integer from low to high."""
     if not is_integer(count, low, high):
         raise InvalidCount("no integer within the bounds")
+
+
+def check_low(low):
+    """InvalidBounds unless any value is an integer from 0 on."""
+    if type(low) != int or low < 0:
+        raise InvalidBounds("low is no integer from 0 on")
+
+
+def check_bounds(low, high):
+    """InvalidBounds unless any two values are integers from 0 on, high not below low."""
+    check_low(low)
+    if type(high) != int or high < low:
+        raise InvalidBounds("high is no integer from low on")
 
 
 def check_sequence(land, order):
