@@ -1,9 +1,9 @@
 """The calls of the modules: for each one right arguments, and for each parameter what is wrong for it."""
 
 from tests import samples
-from wardsdrawn import errors, exchanges, lands, orders, spans, wished
+from wardsdrawn import errors, exchanges, lands, nested, orders, spans, strange, walks, wished
 
-MODULES = (lands, orders, wished, spans, exchanges)
+MODULES = (lands, orders, wished, spans, exchanges, walks, strange, nested)
 
 PLACED = {"land": samples.LAND, "head": 2}
 LOTTED = {"land": samples.LAND, "lot": (0, 1, 3)}
@@ -13,7 +13,11 @@ WISHED = {"land": samples.WISHED, "heads": (1, 2), "sizes": (2, 2)}
 WHOLE = {"land": samples.RING, "lot": (0, 1, 2, 3)}
 GROWN = {**WHOLE, "tree": samples.RING_TREE}
 BOUNDED = {"low": 6, "high": 12}
+FITTED = {**PLANNED, **BOUNDED}
 LED = {**PLANNED, "other_plan": ((0, 1, 2, 3), (4,)), **BOUNDED}
+WEIGHED = {**FITTED, "weights": (1, 1, 1, 1, 1), "steps": 1, "level": (1, 2)}
+SHIRED = {**PLANNED, "shires": ((0, 1), (2, 3, 4))}
+BUNDLED = {"land": samples.LAND, "shires": ((0, 1), (2, 3, 4)), "lot": (1,)}
 
 # The plans of two wards of samples.LAND that fit 6 and 12: 7 and 11 folk, 7 and 11, 11 and 7.
 CLOSED = (((0, 1), (2, 3, 4)), ((0, 1, 2), (3, 4)), ((0, 1, 2, 3), (4,)))
@@ -57,13 +61,29 @@ CALLS = (
     (spans.even_cuts, {**GROWN, "low": 3, "high": 5}),
     (spans.most_parts, {**GROWN, "low": 3}),
     (spans.fairest_parts, {**GROWN, "count": 2}),
-    (exchanges.fits, {**PLANNED, **BOUNDED}),
-    (exchanges.near, {**PLANNED, **BOUNDED}),
-    (exchanges.closed_lot, {**PLANNED, **BOUNDED}),
+    (exchanges.fits, FITTED),
+    (exchanges.near, FITTED),
+    (exchanges.closed_lot, FITTED),
     (exchanges.led, LED),
     (exchanges.is_row, {**LED, "value": CLOSED[1:]}),
     (exchanges.is_closed, {"land": samples.LAND, **BOUNDED, "value": CLOSED}),
     (exchanges.closed_lots, {"land": samples.LAND, "count": 2, **BOUNDED}),
+    (walks.chance, LED),
+    (walks.nexts, FITTED),
+    (walks.share, FITTED),
+    (walks.behind, {**FITTED, "steps": 2}),
+    (walks.wandered, {**FITTED, "tape": ((0, 0, 1, 0), (3, 5, 2, 9))}),
+    (strange.label, {**PLANNED, "weights": (1, 20, 300, -1000, 7)}),
+    (strange.is_strange, {"labels": (1, 2, 3), "level": (1, 3)}),
+    (strange.chances, {**FITTED, "steps": 1}),
+    (strange.strange_chance, WEIGHED),
+    (strange.strange_share, WEIGHED),
+    (nested.cut_shires, SHIRED),
+    (nested.common_lots, SHIRED),
+    (nested.is_nested, {**PLANNED, "other_plan": SHIRED["shires"]}),
+    (nested.bundled, BUNDLED),
+    (nested.fewest_cut, {"land": samples.LAND, "shires": SHIRED["shires"], "count": 2, **BOUNDED}),
+    (nested.is_barred, {**BUNDLED, "count": 2, **BOUNDED}),
 )
 
 # What the calls of CALLS answer.
@@ -75,10 +95,25 @@ ANSWERS = (
     ("yes", ((0, 1), (2, 3))), True, True,
     4, True, samples.RING_TREE, 2, ((0, 1), (2, 3)), ((0, 1), (1, 2)), (2, ((0, 1),)), (4, ((1, 2),)),
     True, (CLOSED[0], CLOSED[2]), CLOSED, ("yes", CLOSED[1:]), True, True, (CLOSED,),
+    (1, 4), ((CLOSED[0], (1, 12)), (CLOSED[1], (2, 3)), (CLOSED[2], (1, 4))), (3, 7),
+    ((CLOSED[0], (17, 144)), (CLOSED[1], (19, 36)), (CLOSED[2], (17, 48))), (samples.PLAN, CLOSED[0], samples.PLAN),
+    -1000, True, ((CLOSED[0], (1, 5)), (CLOSED[1], (3, 5)), (CLOSED[2], (1, 5))), (1, 5), (1, 15),
+    (1,), ((0, 1), (2,), (3, 4)), False, (((5, 2, 11), ((0, 1), (0, 2), (1, 2))), ((0,), (1,), (2, 3, 4))),
+    ((), CLOSED[0]), False,
 )
 
 # Of samples.ANY_VALUES, these are right for a parameter.
-RIGHT_VALUES = {"cut": (None,), "cuts": ((),), "high": (12, 10 ** 89, 10 ** 90 - 1)}
+RIGHT_VALUES = {"cut": (None,), "cuts": ((),), "tape": ((),), "high": (12, 10 ** 89, 10 ** 90 - 1)}
+
+# And these are right for a parameter of one call.
+RIGHT_VALUES_FOR = {
+    (spans.most_parts, "low"): RIGHT_VALUES["high"],
+    (nested.bundled, "lot"): ((),),
+    (nested.is_barred, "lot"): ((),),
+    (strange.chances, "steps"): (12,),
+    (strange.strange_chance, "steps"): (12,),
+    (strange.strange_share, "steps"): (12,),
+}
 
 
 def told(error, values, field=None):
@@ -103,6 +138,11 @@ WRONG = {
     "low": (errors.InvalidBounds, samples.NO_LOWS_BELOW_HIGH),
     "high": (errors.InvalidBounds, samples.NO_HIGHS),
     "count": (errors.InvalidCount, samples.NO_WARD_COUNTS),
+    "steps": (errors.InvalidCount, samples.NO_MANY_STEPS),
+    "tape": (errors.InvalidPart, samples.NO_TAPES),
+    "weights": (errors.InvalidPart, samples.NO_WEIGHTS),
+    "labels": (errors.InvalidPart, samples.NO_LABELS),
+    "level": (errors.InvalidPart, samples.NO_LEVELS),
 }
 
 # What is wrong for a parameter of one call alone.
@@ -112,6 +152,11 @@ WRONG_FOR = {
     (spans.even_cuts, "high"): (errors.InvalidBounds, (2, *samples.NO_HIGHS[1:])),
     (spans.most_parts, "low"): (errors.InvalidBounds, samples.NO_LOWS),
     (spans.fairest_parts, "count"): (errors.InvalidCount, samples.NO_PART_COUNTS),
+    (walks.behind, "steps"): (errors.InvalidCount, samples.NO_FEW_STEPS),
+    (nested.bundled, "lot"): (errors.InvalidPart, samples.NO_SHIRE_LOTS),
+    (nested.is_barred, "lot"): (errors.InvalidPart, samples.NO_SHIRE_LOTS),
+    (nested.fewest_cut, "count"): (errors.InvalidCount, samples.NO_SHIRE_COUNTS),
+    (nested.is_barred, "count"): (errors.InvalidCount, samples.NO_SHIRE_COUNTS),
 }
 
 
@@ -119,7 +164,7 @@ def wrong_for(call, name):
     """Rows (value, error class, name of its field or None, worth of it) of wrong arguments for a parameter."""
     if name == "land":
         return [(value, errors.InvalidLand, "place", place) for value, place in samples.NO_LANDS]
-    if name in ("plan", "other_plan"):
+    if name in ("plan", "other_plan", "shires"):
         return [(value, errors.InvalidPlan, "index", index) for value, index in samples.NO_PLANS]
     row = WRONG_FOR.get((call, name), WRONG.get(name))
     return told(*row) if row else []
@@ -127,8 +172,6 @@ def wrong_for(call, name):
 
 def any_wrong_for(call, name):
     """The values of samples.ANY_VALUES that are wrong for a parameter of a call."""
-    right = RIGHT_VALUES.get(name, ())
-    if name == "low":
-        # An integer above high is wrong as a low beside it.
-        right = RIGHT_VALUES["high"] if call is spans.most_parts else (12,)
+    # An integer above high is wrong as a low beside it.
+    right = RIGHT_VALUES_FOR.get((call, name), (12,) if name == "low" else RIGHT_VALUES.get(name, ()))
     return [value for value in samples.ANY_VALUES if repr(value) not in [repr(known) for known in right]]

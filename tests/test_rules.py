@@ -8,11 +8,12 @@ import sys
 import time
 import unittest
 from itertools import combinations
+from math import gcd
 
 from tests import samples
 from tests.asking import Asking
-from tests.calls import ANSWERS, CALLS, MODULES, any_wrong_for, wrong_for
-from wardsdrawn import errors, exchanges, lands, orders, spans, wished
+from tests.calls import ANSWERS, CALLS, FITTED, LED, MODULES, WEIGHED, any_wrong_for, wrong_for
+from wardsdrawn import errors, exchanges, lands, nested, orders, spans, strange, walks, wished
 
 ROOT = os.path.dirname(os.path.dirname(os.path.abspath(__file__)))
 
@@ -66,6 +67,11 @@ class CallingTest(Asking):
             ],
             "wardsdrawn.exchanges": [
                 "fits", "near", "closed_lot", "led", "is_row", "is_closed", "closed_lots",
+            ],
+            "wardsdrawn.walks": ["chance", "nexts", "share", "behind", "wandered"],
+            "wardsdrawn.strange": ["label", "is_strange", "chances", "strange_chance", "strange_share"],
+            "wardsdrawn.nested": [
+                "cut_shires", "common_lots", "is_nested", "bundled", "fewest_cut", "is_barred",
             ],
         })
 
@@ -184,16 +190,54 @@ class CallingTest(Asking):
         self.same(exchanges.is_closed(land, 0, 1, (((False,), (1,)),)), False)
         self.raises(errors.InvalidCount, exchanges.closed_lots, land, True, 0, 1)
 
+    def test_an_equal_truth_is_no_weight_label_level_step_or_index(self):
+        land, plan = ((1, 1), ((0, 1),)), ((0,), (1,))
+        self.same(strange.label(land, plan, (1,)), 1)
+        self.raises(errors.InvalidPart, strange.label, land, plan, (True,))
+        self.same(strange.is_strange((1,), (1, 1)), True)
+        self.raises(errors.InvalidPart, strange.is_strange, (True,), (1, 1))
+        self.raises(errors.InvalidPart, strange.is_strange, (1,), (True, 1))
+        self.raises(errors.InvalidPart, strange.is_strange, (1,), (1, True))
+        self.same(strange.chances(land, plan, 0, 1, 1), ((plan, (1, 1)),))
+        self.raises(errors.InvalidCount, strange.chances, land, plan, 0, 1, True)
+        self.raises(errors.InvalidBounds, strange.chances, land, plan, False, 1, 1)
+        self.raises(errors.InvalidCount, strange.strange_chance, land, plan, 0, 1, (1,), False, (1, 1))
+        self.raises(errors.InvalidCount, strange.strange_share, land, plan, 0, 1, (1,), True, (1, 1))
+        self.same(walks.behind(land, plan, 0, 1, 1), ((plan, (1, 1)),))
+        self.raises(errors.InvalidCount, walks.behind, land, plan, 0, 1, True)
+        self.raises(errors.InvalidBounds, walks.nexts, land, plan, 0, True)
+        self.raises(errors.InvalidBounds, walks.share, land, plan, False, 1)
+        self.same(walks.wandered(land, plan, 0, 1, ((0, 1, 0, 0),)), (plan, plan))
+        self.raises(errors.InvalidPart, walks.wandered, land, plan, 0, 1, ((0, True, 0, 0),))
+        self.raises(errors.InvalidPlan, nested.cut_shires, land, plan, ((False,), (1,)), field="index", worth=0)
+        self.same(nested.bundled(land, plan, (1,)), (land, plan))
+        self.raises(errors.InvalidPart, nested.bundled, land, plan, (True,))
+        self.same(nested.is_barred(land, plan, (0,), 1, 0, 1), True)
+        self.raises(errors.InvalidPart, nested.is_barred, land, plan, (False,), 1, 0, 1)
+        self.raises(errors.InvalidCount, nested.is_barred, land, plan, (0,), True, 0, 1)
+        self.raises(errors.InvalidCount, nested.fewest_cut, land, plan, True, 0, 1)
+
+    def test_fractions_have_no_common_divisor(self):
+        found = [walks.chance(**LED), walks.share(**FITTED), strange.strange_chance(**WEIGHED),
+                 strange.strange_share(**WEIGHED)]
+        found += [part for _, part in (*walks.nexts(**FITTED), *walks.behind(**FITTED, steps=6),
+                                       *strange.chances(**FITTED, steps=6))]
+        for steps in range(7):
+            found.append(strange.strange_chance(**{**WEIGHED, "steps": steps}))
+            found.append(strange.strange_share(**{**WEIGHED, "steps": steps, "level": (1, 1)}))
+        for part in found:
+            self.assertEqual([type(part), *map(type, part)], [tuple, int, int])
+            self.assertTrue(part[1] >= 1 and gcd(*part) == 1)
+        self.assertIn((0, 1), found)
+        self.assertIn((1, 1), found)
+
     def test_a_list_is_no_tuple(self):
-        known = {"land": errors.InvalidLand, "plan": errors.InvalidPlan, "other_plan": errors.InvalidPlan,
-                 "lot": errors.InvalidLot, "row": errors.InvalidPart, "order": errors.InvalidPart,
-                 "heads": errors.InvalidPart, "sizes": errors.InvalidPart, "tree": errors.InvalidPart,
-                 "cuts": errors.InvalidPart}
         for call, right in CALLS:
             for name in right:
-                if name in known:
+                wrong = wrong_for(call, name)
+                if wrong and type(right[name]) == tuple:
                     with self.subTest(call.__name__, name=name):
-                        self.raises(known[name], call, **{**right, name: list(right[name])})
+                        self.raises(wrong[0][1], call, **{**right, name: list(right[name])})
         self.same(lands.is_land(list(samples.LAND)), False)
         self.same(lands.is_plan(samples.LAND, list(samples.PLAN)), False)
         self.same(lands.is_plan(samples.LAND, ([0, 1, 2], [3, 4])), False)
@@ -280,20 +324,34 @@ class LimitsTest(Asking):
     def test_each_call_on_twelve_places_ends_soon(self):
         for land in samples.TWELVES:
             for call, right in CALLS:
-                with self.subTest(call.__name__, land=land):
-                    self.ends_soon(call, self.for_twelve(call, land, right))
+                if call not in (nested.fewest_cut, nested.is_barred):
+                    with self.subTest(call.__name__, land=land):
+                        self.ends_soon(call, self.for_limits(call, land, right))
 
-    def for_twelve(self, call, land, right):
-        """Arguments for a call on a land of twelve places."""
-        every = tuple(range(12))
+    def test_each_call_on_nine_places_ends_soon(self):
+        for land in samples.NINES:
+            for call, right in CALLS:
+                if call.__module__ in ("wardsdrawn.exchanges", "wardsdrawn.walks", "wardsdrawn.nested"):
+                    for count in range(1, 7):
+                        with self.subTest(call.__name__, land=land, count=count):
+                            self.ends_soon(call, {**self.for_limits(call, land, right), "count": count}
+                                           if "count" in right else self.for_limits(call, land, right))
+
+    def for_limits(self, call, land, right):
+        """Arguments for a call on a land of twelve places, or of nine."""
+        every = tuple(range(len(land[0])))
         alone = tuple((k,) for k in every)
         tree = spans.nth_tree(land, every, 0) if lands.hangs(land, every) else ()
         made = {
             "land": land, "value": land, "plan": alone, "other_plan": alone, "lot": every, "head": 0,
-            "other_head": 11, "row": every, "order": every, "cut": None, "number": 0, "size": 6,
+            "other_head": every[-1], "row": every, "order": every, "cut": None, "number": 0, "size": 6,
             "heads": (0, 3, 6, 11), "sizes": (3, 3, 3, 3), "tree": tree, "cuts": tree[::2], "low": 0,
-            "high": 10 ** 89, "count": 6,
+            "high": 10 ** 89, "count": 6, "weights": (1000,) * len(land[1]), "labels": (7,) * 200, "level": (1, 3),
+            "steps": 6 if call is walks.behind else 12, "tape": ((10 ** 89,) * 4,) * 200, "shires": alone,
         }
+        if call.__module__ in ("wardsdrawn.walks", "wardsdrawn.strange") and lands.hangs(land, every[:-1]):
+            # Two wards have more plans to go to.
+            made["plan"] = made["other_plan"] = (every[:-1], every[-1:])
         values = {
             orders.is_order: every, wished.is_serving: tuple(every[k:k + 3] for k in (0, 3, 6, 9)),
             wished.are_cases: ("lost", 5), spans.is_tree: tree, exchanges.is_row: (alone,),
@@ -301,7 +359,7 @@ class LimitsTest(Asking):
         }
         made["value"] = values.get(call, land)
         if call is orders.is_shut:
-            made["lot"] = every[1:11]
+            made["lot"] = every[1:-1]
         return {name: made[name] for name in right}
 
     def ends_soon(self, call, arguments):
@@ -313,7 +371,9 @@ class LimitsTest(Asking):
             self.assertIn(call, (orders.nth_order, orders.by_order, spans.nth_tree, spans.tree_number, spans.parts,
                                  spans.even_cuts, spans.most_parts, spans.fairest_parts))
         except errors.TooMany:
-            self.assertIs(call, exchanges.closed_lots)
+            self.assertTrue(call is exchanges.closed_lots or call.__module__ == "wardsdrawn.strange")
+        except errors.Refused:
+            self.assertEqual(call.__module__, "wardsdrawn.walks")
         self.assertLess(time.monotonic() - began, SECONDS)
 
     def test_orders_where_each_two_of_twelve_are_neighbours(self):
@@ -346,7 +406,7 @@ class LimitsTest(Asking):
             for name in right:
                 wrong = wrong_for(call, name)
                 for value in any_wrong_for(call, name) if wrong else ():
-                    worth = {"land": (), "plan": 0, "other_plan": 0}.get(name)
+                    worth = {"land": (), "plan": 0, "other_plan": 0, "shires": 0}.get(name)
                     with self.subTest(call.__name__, name=name, value=short(value)):
                         began = time.monotonic()
                         self.raises(wrong[0][1], call, **{**right, name: value}, field=wrong[0][2], worth=worth)
@@ -406,12 +466,14 @@ class WrongArgumentsTest(Asking):
             if told:
                 with self.subTest(call.__name__):
                     nothing = {name: None for name in right}
-                    self.raises(errors.InvalidLand, call, **nothing, field="place", worth=())
+                    self.raises(wrong_for(call, told[0])[0][1], call, **nothing)
+                    self.assertEqual(told[0], next(name for name in right if name != "value"))
 
     def test_each_parameter_of_the_table_is_asked(self):
         asked = {name for call, right in CALLS for name in right if wrong_for(call, name)}
         self.assertEqual(asked, {"land", "plan", "other_plan", "lot", "head", "other_head", "row", "order", "cut",
-                                 "size", "number", "heads", "sizes", "tree", "cuts", "low", "high", "count"})
+                                 "size", "number", "heads", "sizes", "tree", "cuts", "low", "high", "count",
+                                 "steps", "tape", "weights", "labels", "level", "shires"})
 
     def test_both_heads_are_unlike(self):
         for call, right in CALLS:

@@ -38,7 +38,7 @@ def closed_lot(land, plan, low, high):
     check_plan(land, plan)
     check_bounds(low, high)
     check_fit(land, plan, low, high)
-    return lot_of_plans(list(steps_from(good_wards(land, low, high), division_of(plan))))
+    return lot_of_plans(list(steps_from(good_wards(land, low, high), division_of(plan), MOST_PLANS)))
 
 
 def led(land, plan, other_plan, low, high):
@@ -51,11 +51,11 @@ def led(land, plan, other_plan, low, high):
     check_fit(land, other_plan, low, high)
     good = good_wards(land, low, high)
     here, there = division_of(plan), division_of(other_plan)
-    found = steps_from(good, here)
+    found = steps_from(good, here, MOST_PLANS)
     if there not in found:
         return ("no", lot_of_plans(list(found)))
     # Exchanges lead back, too: so the steps to the other plan are those from it.
-    return ("yes", least_row(good, here, steps_from(good, there)))
+    return ("yes", least_row(good, here, steps_from(good, there, MOST_PLANS)))
 
 
 def is_row(land, plan, other_plan, low, high, value):
@@ -97,7 +97,7 @@ def closed_lots(land, count, low, high):
     lots = []
     for division in found:
         if division not in known:
-            together = list(steps_from(good, division))
+            together = list(steps_from(good, division, MOST_PLANS))
             lots.append(lot_of_plans(together))
             for other in together:
                 known[other] = True
@@ -166,10 +166,10 @@ def with_exchange(division, ward, other, bit):
     return tuple(sorted(left + [ward ^ bit, other | bit]))
 
 
-def steps_from(good, start):
+def steps_from(good, start, most):
     """The dict that gives for each division of the closed lot of a start how many exchanges it is away.
 
-    TooMany if there are too many of them.
+    TooMany if there are more than most of them.
     """
     steps = {start: 0}
     waiting = [start]
@@ -180,8 +180,8 @@ def steps_from(good, start):
                 if other not in steps:
                     steps[other] = steps[division] + 1
                     fresh.append(other)
-            if len(steps) > MOST_PLANS:
-                raise TooMany(MOST_PLANS)
+            if len(steps) > most:
+                raise TooMany(most)
         waiting = fresh
     return steps
 

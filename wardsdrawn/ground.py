@@ -4,6 +4,8 @@ A mask is an integer that stands for some places: its k-th bit is 1 if the k-th 
 The links of a land are a list with, for each place, the mask of its neighbours.
 """
 
+from math import gcd
+
 from wardsdrawn.errors import InvalidBounds, InvalidCount, InvalidLand, InvalidLot
 from wardsdrawn.errors import InvalidPart, InvalidPlace, InvalidPlan
 
@@ -41,6 +43,12 @@ def is_sequence(land, value):
     if type(value) != tuple or len(value) != len(land[0]):
         return False
     return all(is_place(land, place) for place in value) and len(set(value)) == len(value)
+
+
+def fraction(top, bottom):
+    """The fraction of a top by a bottom above 0."""
+    common = gcd(top, bottom)
+    return (top // common, bottom // common)
 
 
 def mask_of(lot):
