@@ -1,9 +1,9 @@
 """The calls of the modules: for each one right arguments, and for each parameter what is wrong for it."""
 
 from tests import samples
-from wardsdrawn import errors, exchanges, lands, nested, orders, spans, strange, walks, wished
+from wardsdrawn import drawn, errors, exchanges, lands, nested, orders, spans, strange, texts, walks, wished
 
-MODULES = (lands, orders, wished, spans, exchanges, walks, strange, nested)
+MODULES = (lands, orders, wished, spans, exchanges, walks, strange, nested, texts, drawn)
 
 PLACED = {"land": samples.LAND, "head": 2}
 LOTTED = {"land": samples.LAND, "lot": (0, 1, 3)}
@@ -84,6 +84,17 @@ CALLS = (
     (nested.bundled, BUNDLED),
     (nested.fewest_cut, {"land": samples.LAND, "shires": SHIRED["shires"], "count": 2, **BOUNDED}),
     (nested.is_barred, {**BUNDLED, "count": 2, **BOUNDED}),
+    (texts.land_text, {"land": samples.LAND}),
+    (texts.land_told, {"text": "folk 5 2 0 4 7\n3: 2 4\n0: 2 1\n2: 1"}),
+    (texts.plan_text, PLANNED),
+    (texts.plan_told, {"land": samples.LAND, "text": "4 3\n2 0 1"}),
+    (texts.tape_text, {"tape": ((0, 12, 3, 1), (5, 6, 7, 8))}),
+    (texts.tape_told, {"text": "0 12 3 1\n5 6 7 8"}),
+    (drawn.square, PLANNED),
+    (drawn.bars, {**PLANNED, "wide": 5}),
+    (drawn.listed, PLANNED),
+    (drawn.arcs, PLANNED),
+    (drawn.arcs_told, {"folk": samples.LAND[0], "rows": samples.ARCS}),
 )
 
 # What the calls of CALLS answer.
@@ -100,10 +111,16 @@ ANSWERS = (
     -1000, True, ((CLOSED[0], (1, 5)), (CLOSED[1], (3, 5)), (CLOSED[2], (1, 5))), (1, 5), (1, 15),
     (1,), ((0, 1), (2,), (3, 4)), False, (((5, 2, 11), ((0, 1), (0, 2), (1, 2))), ((0,), (1,), (2, 3, 4))),
     ((), CLOSED[0]), False,
+    "folk 5 2 0 4 7\n0: 1 2\n1: 2\n2: 3\n3: 4", samples.LAND, "0 1 2\n3 4", samples.PLAN,
+    "0 12 3 1\n5 6 7 8", ((0, 12, 3, 1), (5, 6, 7, 8)),
+    ("a--..", "-a-..", "--a#.", "..#b-", "...-b"), ("a ###+.", "b #####"), ("a 7 : 0 1 2", "b 11 : 3 4"), samples.ARCS,
+    (samples.LAND, samples.PLAN),
 )
 
 # Of samples.ANY_VALUES, these are right for a parameter.
-RIGHT_VALUES = {"cut": (None,), "cuts": ((),), "tape": ((),), "high": (12, 10 ** 89, 10 ** 90 - 1)}
+RIGHT_VALUES = {
+    "cut": (None,), "cuts": ((),), "tape": ((),), "high": (12, 10 ** 89, 10 ** 90 - 1), "wide": (12,),
+}
 
 # And these are right for a parameter of one call.
 RIGHT_VALUES_FOR = {
@@ -113,6 +130,7 @@ RIGHT_VALUES_FOR = {
     (strange.chances, "steps"): (12,),
     (strange.strange_chance, "steps"): (12,),
     (strange.strange_share, "steps"): (12,),
+    (texts.tape_told, "text"): ("",),
 }
 
 
@@ -143,6 +161,9 @@ WRONG = {
     "weights": (errors.InvalidPart, samples.NO_WEIGHTS),
     "labels": (errors.InvalidPart, samples.NO_LABELS),
     "level": (errors.InvalidPart, samples.NO_LEVELS),
+    "wide": (errors.InvalidCount, samples.NO_WIDES),
+    "folk": (errors.InvalidPart, samples.NO_FOLK),
+    "rows": (errors.InvalidPart, samples.NO_ARCS),
 }
 
 # What is wrong for a parameter of one call alone.
@@ -157,6 +178,14 @@ WRONG_FOR = {
     (nested.is_barred, "lot"): (errors.InvalidPart, samples.NO_SHIRE_LOTS),
     (nested.fewest_cut, "count"): (errors.InvalidCount, samples.NO_SHIRE_COUNTS),
     (nested.is_barred, "count"): (errors.InvalidCount, samples.NO_SHIRE_COUNTS),
+    # Right tapes are the care of who calls this.
+    (texts.tape_text, "tape"): None,
+}
+
+NO_TEXTS = {
+    texts.land_told: samples.NO_LAND_TEXTS,
+    texts.plan_told: samples.NO_PLAN_TEXTS,
+    texts.tape_told: samples.NO_TAPE_TEXTS,
 }
 
 
@@ -166,8 +195,17 @@ def wrong_for(call, name):
         return [(value, errors.InvalidLand, "place", place) for value, place in samples.NO_LANDS]
     if name in ("plan", "other_plan", "shires"):
         return [(value, errors.InvalidPlan, "index", index) for value, index in samples.NO_PLANS]
+    if name == "text":
+        return [(value, errors.InvalidText, "index", index) for value, index in NO_TEXTS[call]]
     row = WRONG_FOR.get((call, name), WRONG.get(name))
     return told(*row) if row else []
+
+
+def worth_of(call, name, value):
+    """What the error of one of samples.ANY_VALUES keeps in its field."""
+    if name == "text" and value == "01":
+        return 0 if call is texts.land_told else 1
+    return {"land": (), "plan": 0, "other_plan": 0, "shires": 0, "text": 0}.get(name)
 
 
 def any_wrong_for(call, name):

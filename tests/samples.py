@@ -191,3 +191,24 @@ NO_SHIRE_COUNTS = (0, 7, -1, 12, True, False, None, "1", (1,), [1], 10 ** 89, -(
 # Of two shires.
 NO_SHIRE_LOTS = ([], [0], 0, None, True, "0", (2,), (-1,), (0, 2), (0, 0), (1, 0), (0, 1, 1), (0, 1, 2), (True,),
                  (False, 1), (0, True), ("0",), (0, None), (0, (1,)), ((0,),), (0, 10 ** 89))
+
+# From 1 to 100.
+NO_WIDES = (0, 101, -1, 1000, True, False, None, "5", (5,), [5], 10 ** 89, -(10 ** 89), ())
+NO_FOLK = ([5, 2, 0, 4, 7], (), (5,), (1,) * 13, (5, -1), (5, 1000001), (True, 2), (5, False), (5, None), ("5", 2),
+           (5, (2,)), None, 7, True, "52", (5, 10 ** 89))
+
+# Of LAND with PLAN, drawn by arcs.
+ARCS = ("+-+......", "+---+....", "..+-+....", "....+=+..", "......+-+", "a a a b b")
+NO_ARCS = ([*ARCS], (), None, 7, True, ARCS[-1], ARCS[::-1], ARCS[:-1], ARCS[1:2] + ARCS[:1] + ARCS[2:],
+           ARCS + ARCS[-1:], ARCS[:1] + ARCS, ARCS[:-1] + ("b b b a a",), ARCS[:-1] + ("a a a c c",),
+           ARCS[:-1] + ("a a a a a",), ARCS[:-1] + (None,), (7,) + ARCS[1:], ("+=+......",) + ARCS[1:],
+           ("+-+..... ",) + ARCS[1:], ("+-+",) + ARCS[1:])
+
+# What is no text of a land, of a plan, of a tape, and the index of the first sign at which none goes on.
+NO_LAND_TEXTS = (("", 0), ("folk", 4), ("folk 1 01", 8), ("folk 1 1\n", 9), ("folk 1 1\n0: 1 ", 14), ("folk  1", 5),
+                 ("folk 1 1\n0 1", 10), ("Folk 1 1", 0), ("folk 1234567890123", 17), (None, 0), (7, 0), (True, 0),
+                 (("folk 1 1",), 0), (["folk 1 1"], 0), (b"folk 1 1", 0))
+NO_PLAN_TEXTS = (("", 0), ("0 1 2\n3 4\n", 10), ("0 1 2\n\n3 4", 6), ("0  1", 2), ("00", 1), ("0 1,2", 3), ("0:", 1),
+                 ("1234567890123", 12), (None, 0), (7, 0), (True, 0), (("0 1",), 0), ([0, 1], 0), (b"0 1", 0))
+NO_TAPE_TEXTS = (("0", 1), ("0 0 0", 5), ("0 0 0 0 0", 7), ("0 0 0 0\n", 8), ("\n", 0), ("0 0 0 00", 7), (" ", 0),
+                 ("0 0 0 1234567890123", 18), (None, 0), (7, 0), (True, 0), ((), 0), ([0, 1], 0), (b"", 0))

@@ -12,8 +12,8 @@ from math import gcd
 
 from tests import samples
 from tests.asking import Asking
-from tests.calls import ANSWERS, CALLS, FITTED, LED, MODULES, WEIGHED, any_wrong_for, wrong_for
-from wardsdrawn import errors, exchanges, lands, nested, orders, spans, strange, walks, wished
+from tests.calls import ANSWERS, CALLS, FITTED, LED, MODULES, WEIGHED, any_wrong_for, worth_of, wrong_for
+from wardsdrawn import drawn, errors, exchanges, lands, nested, orders, spans, strange, texts, walks, wished
 
 ROOT = os.path.dirname(os.path.dirname(os.path.abspath(__file__)))
 
@@ -73,6 +73,8 @@ class CallingTest(Asking):
             "wardsdrawn.nested": [
                 "cut_shires", "common_lots", "is_nested", "bundled", "fewest_cut", "is_barred",
             ],
+            "wardsdrawn.texts": ["land_text", "land_told", "plan_text", "plan_told", "tape_text", "tape_told"],
+            "wardsdrawn.drawn": ["square", "bars", "listed", "arcs", "arcs_told"],
         })
 
     def test_by_position(self):
@@ -348,7 +350,10 @@ class LimitsTest(Asking):
             "heads": (0, 3, 6, 11), "sizes": (3, 3, 3, 3), "tree": tree, "cuts": tree[::2], "low": 0,
             "high": 10 ** 89, "count": 6, "weights": (1000,) * len(land[1]), "labels": (7,) * 200, "level": (1, 3),
             "steps": 6 if call is walks.behind else 12, "tape": ((10 ** 89,) * 4,) * 200, "shires": alone,
+            "wide": 100, "folk": land[0], "rows": drawn.arcs(land, alone), "text": texts.land_text(land),
         }
+        if call in (texts.plan_told, texts.tape_told):
+            made["text"] = texts.plan_text(land, alone) if call is texts.plan_told else "\n".join(["0 12 3 1"] * 2222)
         if call.__module__ in ("wardsdrawn.walks", "wardsdrawn.strange") and lands.hangs(land, every[:-1]):
             # Two wards have more plans to go to.
             made["plan"] = made["other_plan"] = (every[:-1], every[-1:])
@@ -406,7 +411,7 @@ class LimitsTest(Asking):
             for name in right:
                 wrong = wrong_for(call, name)
                 for value in any_wrong_for(call, name) if wrong else ():
-                    worth = {"land": (), "plan": 0, "other_plan": 0, "shires": 0}.get(name)
+                    worth = worth_of(call, name, value)
                     with self.subTest(call.__name__, name=name, value=short(value)):
                         began = time.monotonic()
                         self.raises(wrong[0][1], call, **{**right, name: value}, field=wrong[0][2], worth=worth)
@@ -473,7 +478,8 @@ class WrongArgumentsTest(Asking):
         asked = {name for call, right in CALLS for name in right if wrong_for(call, name)}
         self.assertEqual(asked, {"land", "plan", "other_plan", "lot", "head", "other_head", "row", "order", "cut",
                                  "size", "number", "heads", "sizes", "tree", "cuts", "low", "high", "count",
-                                 "steps", "tape", "weights", "labels", "level", "shires"})
+                                 "steps", "tape", "weights", "labels", "level", "shires", "text", "wide", "folk",
+                                 "rows"})
 
     def test_both_heads_are_unlike(self):
         for call, right in CALLS:

@@ -336,9 +336,12 @@ class FactSTest(Asking):
             for plan in some(plans, 5):
                 for other in some(plans, 5):
                     if len(plan) == len(other):
-                        there = Fraction(*share(land, plan, low, high)) * Fraction(*chance(land, plan, other, low, high))
-                        back = Fraction(*share(land, other, low, high)) * Fraction(*chance(land, other, plan, low, high))
-                        self.assertEqual(there, back)
+                        there = self.product(land, plan, other, low, high)
+                        self.assertEqual(there, self.product(land, other, plan, low, high))
+
+    def product(self, land, plan, other, low, high):
+        """The share of a plan times the chance to another one."""
+        return Fraction(*share(land, plan, low, high)) * Fraction(*chance(land, plan, other, low, high))
 
     def test_a_step_keeps_the_shares(self):
         for land, low, high, plans in CASES[::3]:
