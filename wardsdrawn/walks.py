@@ -81,7 +81,7 @@ def wandered(land, plan, low, high, tape):
 
 
 def check_walk(land, plan, low, high):
-    """Refused unless the walk is told of the land, and a plan fits."""
+    """Refused if the land has more places than the walk is told of, or if a plan does not fit."""
     if len(land[0]) > MOST_PLACES_OF_WALKS:
         raise Refused("the land has too many places")
     check_fit(land, plan, low, high)
@@ -123,9 +123,9 @@ def trees_within(trees, division):
 def steps_of(good, trees, division):
     """The dict that gives for each division to which a step leads from a division the chance, above 0.
 
-    Of the trees of two wards together, each with one of its borders, as many fall into two sides as a tree of
-    each side and a border between them can be drawn; a side is taken with the chance 1 by these borders. So
-    their number is told of no step.
+    Of all trees of two wards together, each with one of its borders, as many fall into two sides as there are
+    trees of the one, trees of the other, and borders between both to choose from. The sides are taken with the
+    chance 1 by the number of these borders, so that this number does not matter.
     """
     pairs = pairs_of(len(division))
     found = {}
