@@ -13,8 +13,11 @@ def square(land, plan):
     check_land(land)
     check_plan(land, plan)
     row = ward_row(plan)
-    places = range(len(land[0]))
-    return tuple("".join([sign_of(land, row, one, other) for other in places]) for one in places)
+    many = len(land[0])
+    lines = []
+    for one in range(many):
+        lines.append("".join([sign_of(land, row, one, other) for other in range(many)]))
+    return tuple(lines)
 
 
 def bars(land, plan, wide):
